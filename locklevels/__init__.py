@@ -1,1 +1,1 @@
-"""Keys, locks, levers: a level that is played act by act, and asked what can still be reached."""
+"""Keys, locks, levers: a level that is played act by act, asked what can still be reached, and edited."""

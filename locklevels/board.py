@@ -5,6 +5,7 @@ Marks are one whole number too: a bit for each thing in order, then one for A, t
 """
 
 WALL = 0
+FLOOR = 1
 START = 2
 STAIRS = 3
 SMALL_KEY = 4
@@ -21,6 +22,8 @@ LEVERS = (6, 7)
 GATES = (8, 9, 10, 11)
 GATES_OPEN_IF_ON = (8, 10)
 KEY_OF_DOOR = {15: 12, 16: 13, 17: 14}
+# A move to such a cell changes the marks, or can't be done with some of them.
+GOES_BY_MARKS = (4, 5, 8, 9, 10, 11, 12, 13, 14, 15, 16, 17)
 DIRECTION_OF_DROP = {18: 0, 19: 1, 20: 2, 21: 3}
 
 STEP_RIGHT = (0, 1, 0, -1)
@@ -52,6 +55,18 @@ def refusal_of(codes):
     return 0
 
 
+# The codes of the level in which this cell has another code; the codes themselves stay as they are.
+def changed_codes(codes, cell, code):
+    changed = list(codes)
+    changed[cell] = code
+    return changed
+
+
+# The codes of the level without the thing at this cell: a key leaves floor, a lock a wall.
+def codes_without(codes, cell):
+    return changed_codes(codes, cell, WALL if codes[cell] == LOCK else FLOOR)
+
+
 def count_bits(number):
     return len([bit for bit in BITS if number & bit])
 
@@ -80,6 +95,8 @@ class Board:
         self.lever_bits = {}
         self.set_lever_bits()
         self.exits = [self.find_exits(cell) for cell in range(self.size)]
+        # Most cells are of this kind, and most of a search's time would go into asking them.
+        self.is_free = [code not in GOES_BY_MARKS for code in codes]
         # The same spots are asked for by one call after another.
         self.known_steps = {}
 
@@ -97,12 +114,14 @@ class Board:
         for code in (LEVER_B, GATE_B_ON, GATE_B_OFF):
             self.lever_bits[code] = BITS[len(self.things) + 1]
 
-    def neighbour(self, cell, act):
-        x = cell % self.width + STEP_RIGHT[act]
-        y = cell // self.width + STEP_DOWN[act]
+    # The cell's number, or CANNOT if there's no such cell.
+    def cell_at(self, x, y):
         if 0 <= x < self.width and 0 <= y < self.height:
             return y * self.width + x
         return CANNOT
+
+    def neighbour(self, cell, act):
+        return self.cell_at(cell % self.width + STEP_RIGHT[act], cell // self.width + STEP_DOWN[act])
 
     # The moves from a cell, with the cells they go to, as far as the marks don't matter.
     def find_exits(self, cell):
@@ -126,6 +145,11 @@ class Board:
 
     def is_over(self, spot):
         return self.codes[spot % self.size] == STAIRS
+
+    # x, y, and whether the game is over there, as several calls tell it.
+    def place(self, spot):
+        cell = self.cell_of(spot)
+        return [cell % self.width, cell // self.width, 1 if self.is_over(spot) else 0]
 
     def small_keys(self, marks):
         return count_bits(marks & self.code_bits[SMALL_KEY]) - count_bits(marks & self.code_bits[LOCK])
@@ -159,7 +183,7 @@ class Board:
         marks = spot // self.size
         found = [CANNOT] * ACTS
         for act, there in self.exits[cell]:
-            after = self.marks_after(there, marks)
+            after = marks if self.is_free[there] else self.marks_after(there, marks)
             if after != CANNOT:
                 found[act] = after * self.size + there
         if self.codes[cell] in LEVERS:

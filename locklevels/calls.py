@@ -4,8 +4,8 @@ Each call is a function of the session, the call's numbers and its row (empty wh
 It gives back the numbers that are answered.
 """
 
-from locklevels.board import CANNOT, Board, refusal_of
-from locklevels.search import first_list, reached_spots
+from locklevels.board import CANNOT, Board, changed_codes, codes_without, refusal_of
+from locklevels.search import count_ways, first_list, hopeful_spots, list_to_stairs, reached_spots
 
 DONE = 0
 OUTSIDE_RANGE = -1
@@ -23,32 +23,49 @@ class Session:
     def __init__(self):
         self.board = None
         self.spots = []
+        self.hopeful = None
 
     def begin(self, board):
         self.board = board
-        self.spots = [board.first_spot()]
+        self.hopeful = None
+        self.restart()
+
+    def restart(self):
+        self.spots = [self.board.first_spot()]
 
     def spot_here(self):
         return self.spots[-1]
 
-    # x, y, and whether the game is over, as several calls tell it.
-    def place(self):
-        cell = self.board.cell_of(self.spot_here())
-        over = 1 if self.board.is_over(self.spot_here()) else 0
-        return [cell % self.board.width, cell // self.board.width, over]
+    # Found once for a level, from its first spot: whatever is done, one stays within reach of that.
+    def is_spoilt(self, spot):
+        if self.hopeful is None:
+            self.hopeful = hopeful_spots(self.board, self.board.first_spot())
+        return spot not in self.hopeful
+
+
+def told_row(row):
+    return [len(row)] + row
 
 
 def told_list(acts):
     if acts is None:
         return [DONE, 0]
-    return [DONE, 1, len(acts)] + acts
+    return [DONE, 1] + told_row(acts)
+
+
+# Opens the level if it is right. Gives back DONE, or the refusal that it meets.
+def begin_level(session, width, height, codes):
+    refusal = refusal_of(codes)
+    if refusal != 0:
+        return refusal
+    session.begin(Board(width, height, codes))
+    return DONE
 
 
 def open_level(session, numbers, row):
-    refusal = refusal_of(row)
-    if refusal != 0:
-        return [refusal]
-    session.begin(Board(numbers[0], numbers[1], row))
+    begun = begin_level(session, numbers[0], numbers[1], row)
+    if begun != DONE:
+        return [begun]
     return [DONE, len(session.board.things)]
 
 
@@ -59,40 +76,39 @@ def do_act(session, numbers, row):
     if after == CANNOT:
         return [CANT_BE_DONE]
     session.spots.append(after)
-    return [DONE] + session.place()
+    return [DONE] + session.board.place(after)
 
 
 def take_back(session, numbers, row):
     if len(session.spots) == 1:
         return [NOTHING_DONE]
     session.spots.pop()
-    return [DONE] + session.place()
+    return [DONE] + session.board.place(session.spot_here())
 
 
 def start_again(session, numbers, row):
-    session.begin(session.board)
+    session.restart()
     return [DONE]
 
 
 def tell_here(session, numbers, row):
-    marks = session.board.marks_of(session.spot_here())
-    told = [DONE] + session.place()
+    board = session.board
+    marks = board.marks_of(session.spot_here())
+    told = [DONE] + board.place(session.spot_here())
     told.append(len(session.spots) - 1)
-    told.append(session.board.small_keys(marks))
-    mark_row = session.board.mark_row(marks)
-    return told + [len(mark_row)] + mark_row
+    told.append(board.small_keys(marks))
+    return told + told_row(board.mark_row(marks))
 
 
 def least_list(session, numbers, row):
-    board = session.board
-    return told_list(first_list(board, session.spot_here(), lambda spot: board.is_over(spot)))
+    return told_list(list_to_stairs(session.board, session.spot_here()))
 
 
 def far_list(session, numbers, row):
     board = session.board
-    if numbers[0] >= board.width or numbers[1] >= board.height:
+    cell = board.cell_at(numbers[0], numbers[1])
+    if cell == CANNOT:
         return [NO_SUCH]
-    cell = numbers[1] * board.width + numbers[0]
     return told_list(first_list(board, session.spot_here(), lambda spot: board.cell_of(spot) == cell))
 
 
@@ -102,6 +118,65 @@ def tell_reach(session, numbers, row):
     cells = len(set([board.cell_of(spot) for spot in spots]))
     stairs = 1 if any([board.is_over(spot) for spot in spots]) else 0
     return [DONE, len(spots), cells, stairs]
+
+
+def tell_spoilt(session, numbers, row):
+    return [DONE, 1 if session.is_spoilt(session.spot_here()) else 0]
+
+
+def spoil_list(session, numbers, row):
+    return told_list(first_list(session.board, session.spot_here(), lambda spot: session.is_spoilt(spot)))
+
+
+def tell_needed(session, numbers, row):
+    board = session.board
+    if numbers[0] >= len(board.things):
+        return [NO_SUCH]
+    codes = codes_without(board.codes, board.things[numbers[0]])
+    without = Board(board.width, board.height, codes)
+    acts = list_to_stairs(without, without.first_spot())
+    return [DONE, 1 if acts is None else 0]
+
+
+def try_acts(session, numbers, row):
+    spot = session.spot_here()
+    done = 0
+    for act in row:
+        after = session.board.steps(spot)[act]
+        if after == CANNOT:
+            break
+        spot = after
+        done += 1
+    return [DONE, done] + session.board.place(spot)
+
+
+def edit_cell(session, numbers, row):
+    board = session.board
+    cell = board.cell_at(numbers[0], numbers[1])
+    if cell == CANNOT:
+        return [NO_SUCH]
+    codes = changed_codes(board.codes, cell, numbers[2])
+    return [begin_level(session, board.width, board.height, codes)]
+
+
+def tell_ways(session, numbers, row):
+    return [DONE, count_ways(session.board, session.spot_here())]
+
+
+def tell_things(session, numbers, row):
+    board = session.board
+    told = []
+    for cell in board.things:
+        told.extend([cell % board.width, cell // board.width, board.codes[cell]])
+    return [DONE] + told_row(told)
+
+
+def tell_state(session, numbers, row):
+    board = session.board
+    back = []
+    for spot in reversed(session.spots):
+        back.extend([board.cell_of(spot), board.marks_of(spot)])
+    return [DONE, board.width, board.height] + told_row(board.codes) + told_row(back)
 
 
 # By the call's number: its function, the range of each of its numbers, the range of its row's numbers
@@ -115,6 +190,14 @@ CALLS = (
     (least_list, (), ()),
     (far_list, ((0, 9), (0, 9)), ()),
     (tell_reach, (), ()),
+    (tell_spoilt, (), ()),
+    (spoil_list, (), ()),
+    (tell_needed, ((0, 5),), ()),
+    (try_acts, (), (0, 4)),
+    (edit_cell, ((0, 9), (0, 9), (0, 21)), ()),
+    (tell_ways, (), ()),
+    (tell_things, (), ()),
+    (tell_state, (), ()),
 )
 
 

@@ -12,6 +12,14 @@ AGAIN = [3]
 HERE = [4]
 LEAST = [5]
 REACH = [7]
+SPOILT = [8]
+SPOIL = [9]
+WAYS = [13]
+THINGS = [14]
+STATE = [15]
+
+# The greatest number that is handed in.
+HUGE = 10 ** 18
 
 
 def codes_of(*rows):
@@ -32,6 +40,18 @@ def do(act):
 
 def far(x, y):
     return [6, x, y]
+
+
+def needed(thing):
+    return [10, thing]
+
+
+def try_acts(acts):
+    return [11, len(acts)] + list(acts)
+
+
+def edit(x, y, code):
+    return [12, x, y, code]
 
 
 def one_list(calls):

@@ -1,171 +1,141 @@
-"""Holds the program against a slow player that is written straight from the document's words."""
+"""Holds the program against the plain player, on drawn levels and drawn calls."""
 
 import itertools
 import random
 import unittest
 
-from helper import AGAIN, BACK, HERE, LEAST, REACH, ask, do, far, open_codes, steps_of
+from helper import HUGE, ask, do, edit, far, needed, open_codes, steps_of, try_acts
+from plain_player import Game, Player
 
-STEP = ((0, -1), (1, 0), (0, 1), (-1, 0))
-COLOUR_OF_DOOR = {15: 12, 16: 13, 17: 14}
+SEARCHES = (5, 7, 8, 9, 13)
+WRONG = (-HUGE, -1, 5, 6, 10, 22, HUGE)
 
 
-class Player:
-    """Spots are (x, y, marked cells, A on, B on)."""
+# One of these is drawn for a level: the codes of its cells, beside any from 4 to 21.
+GROUNDS = ((0, 1, 1, 1, 1), (1, 1, 1, 4, 4, 5), (0, 1, 1, 1, 1, 4, 5, 12, 15), (1, 1, 6, 7, 8, 9, 10, 11, 4, 5))
+GUARDS = (1, 5, 5, 5, 8, 8, 9, 10, 11, 15, 16, 17, 18, 19, 20, 21)
 
-    def __init__(self, w, h, codes):
-        self.w = w
-        self.h = h
-        self.code = {(x, y): codes[y * w + x] for y in range(h) for x in range(w)}
-        self.things = [(x, y) for y in range(h) for x in range(w) if self.code[x, y] in (4, 5, 12, 13, 14)]
-        self.start = next(cell for cell in self.code if self.code[cell] == 2)
 
-    def first(self):
-        return (*self.start, frozenset(), False, False)
-
-    def over(self, spot):
-        return self.code[spot[:2]] == 3
-
-    def keys_in_hand(self, marked):
-        codes = [self.code[cell] for cell in marked]
-        return codes.count(4) - codes.count(5)
-
-    def play(self, spot, act):
-        """The spot behind the act, or None."""
-        x, y, marked, a_on, b_on = spot
-        code = self.code[x, y]
-        if code == 3:
-            return None
-        if act == 4:
-            if code == 6:
-                return x, y, marked, not a_on, b_on
-            if code == 7:
-                return x, y, marked, a_on, not b_on
-            return None
-        if code >= 18 and code - 18 != act:
-            return None
-        to = (x + STEP[act][0], y + STEP[act][1])
-        marked = self.let_in(to, act, marked, a_on, b_on)
-        return None if marked is None else (*to, marked, a_on, b_on)
-
-    def let_in(self, to, act, marked, a_on, b_on):
-        code = self.code.get(to, 0)
-        if code in (4, 12, 13, 14):
-            return marked | {to}
-        if code == 5:
-            return marked | {to} if to in marked or self.keys_in_hand(marked) > 0 else None
-        free = True
-        if code == 0:
-            free = False
-        elif code in (8, 9, 10, 11):
-            free = (a_on, not a_on, b_on, not b_on)[code - 8]
-        elif code in COLOUR_OF_DOOR:
-            free = COLOUR_OF_DOOR[code] in [self.code[cell] for cell in marked]
-        elif code >= 18:
-            free = (code - 18, act) not in ((0, 2), (1, 3), (2, 0), (3, 1))
-        return marked if free else None
-
-    def play_all(self, spot, acts):
-        for act in acts:
-            if spot is not None:
-                spot = self.play(spot, act)
-        return spot
-
-    def least_lists(self, spot):
-        """For each spot that can be reached the least of the lists of the fewest acts, compared as such."""
-        found = {spot: ()}
-        layer = {spot: ()}
-        while layer:
-            further = {}
-            for before, acts in layer.items():
-                for act in range(5):
-                    behind = self.play(before, act)
-                    if behind is None or behind in found:
-                        continue
-                    further[behind] = min(further.get(behind, acts + (act,)), acts + (act,))
-            found.update(further)
-            layer = further
-        return found
-
-    def told_here(self, spot, done):
-        x, y, marked, a_on, b_on = spot
-        row = [int(cell in marked) for cell in self.things] + [int(a_on), int(b_on)]
-        return [0, x, y, int(self.over(spot)), done, self.keys_in_hand(marked), len(row)] + row
-
-    def told_first(self, lists):
-        if not lists:
-            return [0, 0]
-        return steps_of(min(lists, key=lambda acts: (len(acts), acts)))
-
-    def told_reach(self, spots):
-        return [0, len(spots), len({spot[:2] for spot in spots}), int(any(self.over(spot) for spot in spots))]
+def guard_stairs(draw, codes, stairs, w):
+    """Shuts the cells beside the stairs, for the most part, so that they aren't come to by the way."""
+    x = stairs % w
+    beside = [stairs - w, stairs + w] + [stairs - 1] * (x > 0) + [stairs + 1] * (x < w - 1)
+    for cell in beside:
+        if 0 <= cell < len(codes) and draw.randint(0, 5) > 0:
+            codes[cell] = draw.choice(GUARDS)
 
 
 def draw_level(draw, most):
     w = draw.randint(2, most)
     h = draw.randint(2, most)
-    codes = [draw.choice((0, 1, 1, 1, 1, draw.randint(4, 21), draw.randint(4, 21))) for cell in range(w * h)]
-    start, stairs = draw.sample(range(w * h), 2)
-    codes[start] = 2
+    ground = draw.choice(GROUNDS)
+    codes = [draw.choice(ground + (draw.randint(4, 21),)) for cell in range(w * h)]
+    stairs = draw.randrange(w * (h - 1), w * h)
+    guard_stairs(draw, codes, stairs, w)
     codes[stairs] = 3
+    codes[draw.randrange(w)] = 2
     things = [cell for cell in range(w * h) if codes[cell] in (4, 5, 12, 13, 14)]
-    for cell in things[6:]:
-        codes[cell] = 1
+    for cell in draw.sample(things, max(0, len(things) - 6)):
+        codes[cell] = draw.choice((0, 1, 1))
     return w, h, codes
 
 
-def drawn_calls(draw, player, w, h):
-    """Calls and the answers that the player gives."""
-    spots = [player.first()]
-    for turn in range(19):
-        choice = draw.randint(0, 11)
-        if choice == 0:
-            told = [-8]
-            if len(spots) > 1:
-                spots.pop()
-                told = [0, *spots[-1][:2], int(player.over(spots[-1]))]
-            yield BACK, told
-        elif choice == 1 and turn % 5 == 0:
-            spots = [player.first()]
-            yield AGAIN, [0]
+def draw_act(draw, game):
+    """Mostly one that can be done and doesn't end the game."""
+    free = []
+    if game.player is not None:
+        behind = [game.player.play(game.here(), act) for act in range(5)]
+        free = [act for act in range(5) if behind[act] is not None]
+        free = [act for act in free if not game.player.over(behind[act])] or free
+    if free and draw.randint(0, 6) > 0:
+        return draw.choice(free)
+    return draw.randint(0, 4)
+
+
+def draw_try(draw, game):
+    spot = None if game.player is None else game.here()
+    acts = []
+    for turn in range(draw.choice((0, 1, 3, 12, 12))):
+        free = [act for act in range(5) if spot is not None and game.player.play(spot, act) is not None]
+        acts.append(draw.choice(free * 6 + [draw.randint(0, 4)]))
+        spot = None if spot is None else game.player.play(spot, acts[-1])
+    return acts
+
+
+def draw_call(draw, game, w, h):
+    """A call of any kind, in the ranges but for a few."""
+    number = draw.choice((1,) * 14 + (2, 2, 2, 4, 6, 10, 11, 11, 12, 14, 15, 15) + SEARCHES * 2)
+    if number == 1:
+        return do(draw_act(draw, game))
+    if number == 6:
+        return far(draw.randint(0, w), draw.randint(0, h - 1))
+    if number == 10:
+        return needed(draw.randint(0, 5))
+    if number == 11:
+        return try_acts(draw_try(draw, game))
+    if number == 12:
+        return edit(draw.randint(0, w - 1), draw.randint(0, h), draw.choice((0, 1, 4, 5, draw.randint(4, 21))))
+    return [number]
+
+
+def draw_rare_call(draw, w, h, most):
+    wrong = draw.choice(WRONG)
+    return draw.choice((
+        [3], open_codes(*draw_level(draw, most)), open_codes(w, h, [1] * (w * h)),
+        open_codes(w, h, [2, 3] + [4] * (w * h - 2)), open_codes(wrong, 2, [2, 3, 1, 1]),
+        open_codes(2, 2, [2, 3, wrong, 1]), do(wrong), far(wrong, 0), far(0, wrong), needed(wrong),
+        try_acts([1, 2, wrong]), edit(wrong, 0, 1), edit(0, wrong, 1), edit(0, 0, wrong)))
+
+
+def draw_line(draw, most, length):
+    """Calls and what the plain player answers to each."""
+    game = Game()
+    calls = []
+    if draw.randint(0, 9) == 0:
+        calls.append([draw.choice((2, 3, 4, 14, 15) + SEARCHES)])
+    w, h, codes = draw_level(draw, most)
+    calls.append(open_codes(w, h, codes))
+    told = [game.answer(call) for call in calls]
+    while len(calls) < length:
+        if draw.randint(0, 19) == 0:
+            calls.append(draw_rare_call(draw, w, h, most))
         else:
-            act = draw.choice([one for one in range(5) if player.play(spots[-1], one)] or [0])
-            if draw.randint(0, 4) == 0:
-                act = draw.randint(0, 4)
-            behind = player.play(spots[-1], act)
-            told = [-7] if player.over(spots[-1]) else [-6]
-            if behind is not None:
-                spots.append(behind)
-                told = [0, *behind[:2], int(player.over(behind))]
-            yield do(act), told
-        yield HERE, player.told_here(spots[-1], len(spots) - 1)
-        if turn % 6 == 0:
-            lists = player.least_lists(spots[-1])
-            yield LEAST, player.told_first([acts for spot, acts in lists.items() if player.over(spot)])
-            x = draw.randint(0, w - 1)
-            y = draw.randint(0, h - 1)
-            yield far(x, y), player.told_first([acts for spot, acts in lists.items() if spot[:2] == (x, y)])
-            yield REACH, player.told_reach(lists)
+            calls.append(draw_call(draw, game, w, h))
+        told.append(game.answer(calls[-1]))
+        w, h = game.player.w, game.player.h
+    return calls, told
 
 
 class AgainstPlainPlay(unittest.TestCase):
-    def hold(self, seed, most):
-        draw = random.Random(seed)
-        w, h, codes = draw_level(draw, most)
-        player = Player(w, h, codes)
-        both = list(drawn_calls(draw, player, w, h))
-        found = ask(open_codes(w, h, codes), *[call for call, told in both])
-        self.assertEqual(found[0], [0, len(player.things)], codes)
-        for (call, told), answer in zip(both, found[1:]):
-            self.assertEqual(answer, told, (seed, w, h, codes, call))
+    def hold(self, seed, most, length):
+        calls, told = draw_line(random.Random(seed), most, length)
+        for at, answer in enumerate(ask(*calls)):
+            self.assertEqual(answer, told[at], (seed, at, calls[:at + 1]))
 
     def test_small_levels(self):
-        for seed in range(300):
-            self.hold(seed, 4)
+        for seed in range(400):
+            self.hold(seed, 5, 60)
 
     def test_larger_levels(self):
-        for seed in range(1000, 1060):
-            self.hold(seed, 7)
+        for seed in range(1000, 1040):
+            self.hold(seed, 7, 60)
+
+    def test_levels_of_up_to_the_greatest_size(self):
+        for seed in range(3000, 3010):
+            self.hold(seed, 10, 40)
+
+    def test_the_calls_are_of_all_kinds(self):
+        """Else the tests here would hold less than they seem to."""
+        seen = {}
+        for seed in range(200):
+            for call, told in zip(*draw_line(random.Random(seed), 5, 60)):
+                seen.setdefault(call[0], set()).add(told[0] if told[0] < 0 else tuple(told[:2]))
+        self.assertEqual(sorted(seen), list(range(16)))
+        for number in (8, 9, 10):
+            self.assertLessEqual({(0, 0), (0, 1)}, seen[number])
+        self.assertLessEqual({-1, -3, -4, -5, (0,)}, seen[12])
+        self.assertLessEqual({(0, 0), (0, 1), (0, 2), (0, 3)}, seen[13])
+        self.assertLessEqual({-1, (0, 0), (0, 12)}, seen[11])
 
     def test_all_lists_in_order(self):
         """Each list of up to five acts is tried, in order of length and then of acts."""

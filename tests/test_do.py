@@ -1,8 +1,7 @@
 import unittest
 
-from helper import BACK, DOWN, HERE, LEFT, PULL, RIGHT, UP, after, ask, do, last, level, open_codes
+from helper import BACK, DOWN, HERE, HUGE, LEFT, PULL, RIGHT, UP, after, ask, do, last, level, open_codes
 
-HUGE = 10 ** 18
 MOVES = (UP, RIGHT, DOWN, LEFT)
 STEP = {UP: (0, -1), RIGHT: (1, 0), DOWN: (0, 1), LEFT: (-1, 0)}
 CENTRE = (2, 2)

@@ -1,9 +1,8 @@
 import unittest
 
 from helper import (
-    AGAIN, BACK, DOWN, HERE, LEAST, LEFT, PULL, RIGHT, UP, after, ask, do, far, last, level, steps_of)
+    AGAIN, BACK, DOWN, HERE, HUGE, LEAST, LEFT, PULL, RIGHT, UP, after, ask, do, far, last, level, steps_of)
 
-HUGE = 10 ** 18
 NONE = [0, 0]
 
 

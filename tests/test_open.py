@@ -1,8 +1,7 @@
 import unittest
 
-from helper import BACK, HERE, LEAST, RIGHT, ask, do, far, last, level, open_codes
+from helper import BACK, HERE, HUGE, LEAST, RIGHT, ask, do, far, last, level, open_codes
 
-HUGE = 10 ** 18
 SMALL = [2, 3, 0, 0]
 
 
